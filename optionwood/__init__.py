@@ -1,0 +1,1 @@
+"""Optionwood: wares with options as a tree."""
