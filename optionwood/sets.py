@@ -16,3 +16,7 @@ def size_of(some):
 
 def with_option(some, k):
     return some | (1 << k)
+
+
+def open_options(many, yes, no):
+    return [k for k in range(many) if not has(yes | no, k)]

@@ -3,7 +3,7 @@
 import itertools
 import unittest
 
-from optionwood.sets import has, options_of, size_of, with_option
+from optionwood.sets import has, open_options, options_of, size_of, with_option
 
 ALL_NINE = 2 ** 9 - 1
 
@@ -80,6 +80,12 @@ class SetsTest(unittest.TestCase):
         self.assertEqual(with_option(0, 0), 1)
         self.assertEqual(with_option(1, 8), 257)
         self.assertEqual(with_option(257, 8), 257)
+
+    def test_open_options(self):
+        self.assertEqual(open_options(4, 0, 0), [0, 1, 2, 3])
+        self.assertEqual(open_options(4, 1, 4), [1, 3])
+        self.assertEqual(open_options(4, 4, 1), [1, 3])
+        self.assertEqual(open_options(4, 9, 6), [])
 
 
 if __name__ == "__main__":

@@ -1,0 +1,145 @@
+"""Woods to try, and the document's words gone through set by set, apart from the program's own ways."""
+
+import itertools
+import random
+
+from optionwood.woods import wood_of
+
+FIFTY = int("7" * 50)
+
+# 0 is a bicycle, 1 its frame, 2 and 3 two sorts of frame, 4 a lamp.
+BICYCLE = wood_of(
+    5,
+    [(0, 1, 1, (1,)), (1, 1, 1, (2, 3)), (0, 0, 1, (4,))],
+    [("needs", 4, 2), ("most", 10, ((2, 7), (4, 3)))],
+)
+NINE_BOUGHS = [(0, 1, 2, (1, 2, 5)), (0, 0, 1, (3,)), (2, 2, 2, (4, 8)), (3, 0, 2, (6, 7))]
+NINE = wood_of(9, NINE_BOUGHS, [])
+LONE = wood_of(1, [], [])
+
+
+def set_of(*options):
+    return sum(2 ** k for k in options)
+
+
+def options_in(some):
+    return [k for k in range(20) if some // 2 ** k % 2 == 1]
+
+
+def is_kept(tie, some):
+    having = set(options_in(some))
+    if tie[0] == "needs":
+        return not (tie[1] in having and tie[2] not in having)
+    if tie[0] == "bans":
+        return not {tie[1], tie[2]} <= having
+    if tie[0] == "most":
+        return sum(number for k, number in tie[2] if k in having) <= tie[1]
+    up, low, high, kids = tie
+    come = having & set(kids)
+    return len(come) in range(low, high + 1) if up in having else not come
+
+
+def ties_of(wood):
+    return wood[1] + wood[2]
+
+
+def stands(many):
+    for marks in itertools.product("yn-", repeat=many):
+        yes = set_of(*[k for k in range(many) if marks[k] == "y"])
+        yield yes, set_of(*[k for k in range(many) if marks[k] == "n"])
+
+
+def stands_with_root(many):
+    return [(yes, no) for yes, no in stands(many) if yes % 2 == 1]
+
+
+def sets_in(many, yes, no):
+    return [some for some in range(2 ** many) if some & yes == yes and some & no == 0]
+
+
+def keeping(wood, ties, yes, no):
+    """The sets in the stand that keep these of the wood's ties, rising."""
+    told = [ties_of(wood)[t] for t in ties]
+    return [some for some in sets_in(wood[0], yes, no) if all(is_kept(tie, some) for tie in told)]
+
+
+def wares_at(wood, yes, no):
+    return [some for some in keeping(wood, range(len(ties_of(wood))), yes, no) if some % 2 == 1]
+
+
+def is_broken_for_sure(wood, t, yes, no):
+    return keeping(wood, [t], yes, no) == []
+
+
+def open_at(wood, yes, no):
+    return [k for k in range(wood[0]) if k not in options_in(yes | no)]
+
+
+def grown(wood, ties, yes, no, pick=min):
+    """The tree of cases for these ties, split on the open option that is picked."""
+    for t in ties:
+        if is_broken_for_sure(wood, t, yes, no):
+            return ("broken", t)
+    left = open_at(wood, yes, no)
+    if not left:
+        return ("ware",)
+    k = pick(left)
+    one = grown(wood, ties, yes + 2 ** k, no, pick)
+    return ("split", k, one, grown(wood, ties, yes, no + 2 ** k, pick))
+
+
+def is_right_tree(wood, yes, no, tree):
+    if tree[0] == "broken":
+        return tree[1] in range(len(ties_of(wood))) and is_broken_for_sure(wood, tree[1], yes, no)
+    if tree[0] == "ware":
+        return not open_at(wood, yes, no) and wares_at(wood, yes, no) == [yes]
+    k = tree[1]
+    if k not in open_at(wood, yes, no):
+        return False
+    one = is_right_tree(wood, yes + 2 ** k, no, tree[2])
+    return one and is_right_tree(wood, yes, no + 2 ** k, tree[3])
+
+
+def bar_of(wood, yes, no):
+    left = list(range(len(ties_of(wood))))
+    if keeping(wood, left, yes, no):
+        return None
+    for t in list(left):
+        if not keeping(wood, [u for u in left if u != t], yes, no):
+            left.remove(t)
+    others = [(t, keeping(wood, [u for u in left if u != t], yes, no)[0]) for t in left]
+    return (left, grown(wood, left, yes, no), others)
+
+
+def some_boughs(chance, many):
+    kids_of = {}
+    for k in range(1, many):
+        # an option has up to two boughs
+        kids_of.setdefault((chance.randrange(k), chance.randrange(2)), []).append(k)
+    boughs = []
+    for (up, place), kids in kids_of.items():
+        high = chance.randint(1, len(kids))
+        boughs.append((up, chance.randint(0, high), high, tuple(kids)))
+    chance.shuffle(boughs)
+    return boughs
+
+
+def some_cross_tie(chance, many):
+    kind = chance.choice(("needs", "bans", "most"))
+    if kind != "most" and many > 1:
+        return (kind,) + tuple(chance.sample(range(many), 2))
+    scale = chance.choice((1, 1, FIFTY))
+    options = sorted(chance.sample(range(many), chance.randint(1, many)))
+    pairs = tuple((k, scale * chance.randint(-3, 4)) for k in options)
+    return ("most", scale * chance.randint(-2, 6), pairs)
+
+
+def some_woods(seed, how_many, most_options, most_cross=8):
+    """Woods of all sizes; the seed settles them."""
+    chance = random.Random(seed)
+    woods = []
+    for place in range(how_many):
+        many = 1 + place % most_options
+        cross = [some_cross_tie(chance, many) for tie in range(chance.randint(0, most_cross))]
+        woods.append(wood_of(many, some_boughs(chance, many), cross))
+    return woods
