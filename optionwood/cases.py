@@ -14,30 +14,51 @@ def cases(wood, yes, no):
 
 
 def cases_of(wood, ties, yes, no):
-    broken = first_sure_broken(wood, ties, yes, no)
-    if broken is not None:
-        return ("broken", broken)
-    left = open_options(wood[0], yes, no)
-    if len(left) == 0:
+    return told_tree(wood, ties, yes, no, lambda come, gone: ware_leaf(wood, come, gone))
+
+
+def ware_leaf(wood, yes, no):
+    if len(open_options(wood[0], yes, no)) == 0:
         return ("ware",)
-    k = left[0]
-    one = cases_of(wood, ties, with_option(yes, k), no)
-    other = cases_of(wood, ties, yes, with_option(no, k))
-    return ("split", k, one, other)
+    return None
 
 
 def are_cases(wood, yes, no, tree):
-    left = open_options(wood[0], yes, no)
-    if tree[0] == "ware":
-        return len(left) == 0 and is_ware(wood, yes)
+    return is_tree(wood, yes, no, tree, lambda word, come, gone: is_ware_leaf(wood, word, come, gone))
+
+
+def is_ware_leaf(wood, word, yes, no):
+    return word == "ware" and len(open_options(wood[0], yes, no)) == 0 and is_ware(wood, yes)
+
+
+# Other trees differ from these in their leaves alone. So which leaf, if any, is told at a stand where no
+# tie is broken for sure, and whether a leaf of that word may stand there, is asked of a function.
+
+
+def told_tree(wood, ties, yes, no, leaf_at):
+    broken = first_sure_broken(wood, ties, yes, no)
+    if broken is not None:
+        return ("broken", broken)
+    leaf = leaf_at(yes, no)
+    if leaf is not None:
+        return leaf
+    k = open_options(wood[0], yes, no)[0]
+    one = told_tree(wood, ties, with_option(yes, k), no, leaf_at)
+    other = told_tree(wood, ties, yes, with_option(no, k), leaf_at)
+    return ("split", k, one, other)
+
+
+def is_tree(wood, yes, no, tree, is_leaf):
     if tree[0] == "broken":
         return is_broken_leaf(wood, yes, no, tree[1])
-    if tree[0] != "split" or tree[1] not in left:
-        return False
+    if tree[0] != "split":
+        return is_leaf(tree[0], yes, no)
     k = tree[1]
-    if not are_cases(wood, with_option(yes, k), no, tree[2]):
+    if k not in open_options(wood[0], yes, no):
         return False
-    return are_cases(wood, yes, with_option(no, k), tree[3])
+    if not is_tree(wood, with_option(yes, k), no, tree[2], is_leaf):
+        return False
+    return is_tree(wood, yes, with_option(no, k), tree[3], is_leaf)
 
 
 def is_broken_leaf(wood, yes, no, t):

@@ -11,15 +11,23 @@ def bars(wood, ties, yes, no):
 
 
 def least_bar(wood, yes, no):
-    left = every_tie(wood)
-    if not bars(wood, left, yes, no):
+    if not bars(wood, every_tie(wood), yes, no):
         return None
+    left = least_ties(wood, yes, no)
+    return (left, cases_of(wood, left, yes, no), tie_others(wood, left, yes, no))
+
+
+def least_ties(wood, yes, no):
+    left = every_tie(wood)
     for t in every_tie(wood):
         fewer = without_tie(left, t)
         if bars(wood, fewer, yes, no):
             left = fewer
-    others = [(t, first_keeping(wood, without_tie(left, t), yes, no)) for t in left]
-    return (left, cases_of(wood, left, yes, no), others)
+    return left
+
+
+def tie_others(wood, ties, yes, no):
+    return [(t, first_keeping(wood, without_tie(ties, t), yes, no)) for t in ties]
 
 
 def without_tie(ties, t):

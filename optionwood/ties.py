@@ -93,3 +93,7 @@ def first_sure_broken(wood, ties, yes, no):
         if sure_broken(tie_at(wood, t), yes, no):
             return t
     return None
+
+
+def all_sure_kept(wood, yes, no):
+    return all([sure_kept(tie_at(wood, t), yes, no) for t in every_tie(wood)])

@@ -3,6 +3,7 @@
 import itertools
 import random
 
+from optionwood import errors
 from optionwood.woods import wood_of
 
 FIFTY = int("7" * 50)
@@ -16,6 +17,20 @@ BICYCLE = wood_of(
 NINE_BOUGHS = [(0, 1, 2, (1, 2, 5)), (0, 0, 1, (3,)), (2, 2, 2, (4, 8)), (3, 0, 2, (6, 7))]
 NINE = wood_of(9, NINE_BOUGHS, [])
 LONE = wood_of(1, [], [])
+
+
+REFUSALS = tuple(
+    getattr(errors, name)
+    for name in ("NoWood", "NoCount", "NoWares", "NoOffer", "Unlike", "NoText", "NoRow", "NoName")
+)
+
+
+def check_refused(case, kind, call, *given):
+    """A test case sees the call refused with this kind of refusal, and with none of the others."""
+    with case.assertRaises(errors.WoodError) as caught:
+        call(*given)
+    case.assertIsInstance(caught.exception, ValueError)
+    case.assertEqual([one for one in REFUSALS if isinstance(caught.exception, one)], [kind], given)
 
 
 def set_of(*options):
@@ -75,29 +90,48 @@ def open_at(wood, yes, no):
     return [k for k in range(wood[0]) if k not in options_in(yes | no)]
 
 
-def grown(wood, ties, yes, no, pick=min):
-    """The tree of cases for these ties, split on the open option that is picked."""
+def ware_leaf(wood, yes, no):
+    return None if open_at(wood, yes, no) else ("ware",)
+
+
+def grown(wood, ties, yes, no, pick=min, leaf_at=ware_leaf):
+    """The tree of cases for these ties, split on the open option that is picked, with these leaves."""
     for t in ties:
         if is_broken_for_sure(wood, t, yes, no):
             return ("broken", t)
-    left = open_at(wood, yes, no)
-    if not left:
-        return ("ware",)
-    k = pick(left)
-    one = grown(wood, ties, yes + 2 ** k, no, pick)
-    return ("split", k, one, grown(wood, ties, yes, no + 2 ** k, pick))
+    leaf = leaf_at(wood, yes, no)
+    if leaf:
+        return leaf
+    k = pick(open_at(wood, yes, no))
+    one = grown(wood, ties, yes + 2 ** k, no, pick, leaf_at)
+    return ("split", k, one, grown(wood, ties, yes, no + 2 ** k, pick, leaf_at))
 
 
-def is_right_tree(wood, yes, no, tree):
+def is_right_ware_leaf(wood, leaf, yes, no):
+    return leaf == ("ware",) and not open_at(wood, yes, no) and wares_at(wood, yes, no) == [yes]
+
+
+def is_right_tree(wood, yes, no, tree, is_leaf=is_right_ware_leaf):
     if tree[0] == "broken":
         return tree[1] in range(len(ties_of(wood))) and is_broken_for_sure(wood, tree[1], yes, no)
-    if tree[0] == "ware":
-        return not open_at(wood, yes, no) and wares_at(wood, yes, no) == [yes]
+    if tree[0] != "split":
+        return is_leaf(wood, tree, yes, no)
     k = tree[1]
     if k not in open_at(wood, yes, no):
         return False
-    one = is_right_tree(wood, yes + 2 ** k, no, tree[2])
-    return one and is_right_tree(wood, yes, no + 2 ** k, tree[3])
+    one = is_right_tree(wood, yes + 2 ** k, no, tree[2], is_leaf)
+    return one and is_right_tree(wood, yes, no + 2 ** k, tree[3], is_leaf)
+
+
+def changed(chance, tree, leaves):
+    """The tree with one number, or one leaf, put otherwise."""
+    if tree[0] == "split" and chance.randrange(4):
+        side = chance.choice((2, 3))
+        return tree[:side] + (changed(chance, tree[side], leaves),) + tree[side + 1:]
+    if tree[0] == "split" and chance.randrange(2):
+        return ("split", chance.randint(-2, 5)) + tree[2:]
+    split = ("split", chance.randint(0, 4), tree, tree)
+    return chance.choice((chance.choice(leaves), ("broken", chance.randint(-3, 9)), split))
 
 
 def bar_of(wood, yes, no):

@@ -4,7 +4,7 @@ import random
 import unittest
 
 from samples import (
-    BICYCLE, LONE, NINE, grown, is_right_tree, set_of, some_woods, stands_with_root, ties_of, wares_at,
+    BICYCLE, LONE, NINE, changed, grown, is_right_tree, set_of, some_woods, stands_with_root, ties_of, wares_at,
 )
 from optionwood.cases import are_cases, cases, wares_in
 from optionwood.woods import wood_of
@@ -191,7 +191,7 @@ class LookedAtTest(unittest.TestCase):
         for wood in some_woods(13, 60, 4):
             told = grown(wood, range(len(ties_of(wood))), 1, 0, chance.choice)
             for trial in range(25):
-                tree = changed(chance, told)
+                tree = changed(chance, told, (WARE,))
                 right = is_right_tree(wood, 1, 0, tree)
                 met[right] += 1
                 self.check(right, tree, 1, 0, wood)
@@ -202,16 +202,6 @@ def full_tree(k):
     if k > 3:
         return WARE
     return ("split", k, full_tree(k + 1), full_tree(k + 1))
-
-
-def changed(chance, tree):
-    """The tree with one number, or one leaf, put otherwise."""
-    if tree[0] == "split" and chance.randrange(4):
-        side = chance.choice((2, 3))
-        return tree[:side] + (changed(chance, tree[side]),) + tree[side + 1:]
-    if tree[0] == "split" and chance.randrange(2):
-        return ("split", chance.randint(-2, 5)) + tree[2:]
-    return chance.choice((WARE, ("broken", chance.randint(-3, 9)), ("split", chance.randint(0, 4), tree, tree)))
 
 
 class WaresInTest(unittest.TestCase):

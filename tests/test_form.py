@@ -1,6 +1,7 @@
 """The package keeps to a small part of Python: the rules that can be told from its files alone."""
 
 import ast
+import builtins
 import pathlib
 import re
 import unittest
@@ -52,6 +53,10 @@ def bound_names(tree):
 
 def imported_names(tree):
     return [name.name for node in ast.walk(tree) if isinstance(node, ast.ImportFrom) for name in node.names]
+
+
+def class_names(tree):
+    return [node.name for node in ast.walk(tree) if isinstance(node, ast.ClassDef)]
 
 
 class FormTest(unittest.TestCase):
@@ -135,7 +140,7 @@ class FormTest(unittest.TestCase):
                 self.assertNotIn(node.id, BARRED_NAMES, node.lineno)
         for node in functions(tree):
             for name in bound_names(ast.Module(body=node.body, type_ignores=[])) + [a.arg for a in node.args.args]:
-                self.assertNotIn(name, imported_names(tree), node.lineno)
+                self.assertNotIn(name, imported_names(tree) + class_names(tree) + dir(builtins), node.lineno)
 
     def check_calls(self, tree):
         own = [node.name for path in files() for node in functions(ast.parse(path.read_text(encoding="utf-8")))]
@@ -146,6 +151,24 @@ class FormTest(unittest.TestCase):
                 for op, right in zip(node.ops, node.comparators):
                     if isinstance(op, (ast.Is, ast.IsNot)):
                         self.assertIn(getattr(right, "value", "other"), (None, True, False), node.lineno)
+
+    def test_classes(self):
+        methods = []
+        values = []
+        for path in files():
+            tree = ast.parse(path.read_text(encoding="utf-8"))
+            for node in ast.walk(tree):
+                if isinstance(node, ast.ClassDef):
+                    self.assertIn(node, tree.body, node.name)
+                    self.assertLessEqual(len(node.bases), 1, node.name)
+                    own = [part.name for part in node.body if not isinstance(part, ast.Pass)]
+                    self.assertEqual(len(own), len(set(own)), node.name)
+                    methods += own
+                if isinstance(node, ast.Attribute) and isinstance(node.ctx, ast.Store):
+                    self.assertIsInstance(node.value, ast.Name, node.lineno)
+                    values.append(node.attr)
+        self.assertEqual(set(methods) & set(values), set())
+        self.assertIn("choose", methods)
 
     def test_no_files_draw_from_one_another(self):
         drawn = {}
