@@ -3,7 +3,7 @@
 from optionwood.cases import cases_of
 from optionwood.errors import NoOffer, NoWares
 from optionwood.sets import open_options, with_option
-from optionwood.standing import bars, least_ties, tie_others
+from optionwood.standing import bars, least_ties, left_without, tie_others
 from optionwood.wares import first_keeping, first_ware
 
 
@@ -88,7 +88,7 @@ def why_barred(wood, picks, asked):
 def least_picks(wood, ties, picks, asked):
     left = picks
     for pick in picks:
-        fewer = without_pick(left, pick)
+        fewer = left_without(left, pick)
         stand = stand_of(fewer + [asked])
         if bars(wood, ties, stand[0], stand[1]):
             left = fewer
@@ -98,11 +98,7 @@ def least_picks(wood, ties, picks, asked):
 def pick_others(wood, ties, picks, asked):
     others = []
     for pick in picks:
-        stand = stand_of(without_pick(picks, pick) + [asked])
+        stand = stand_of(left_without(picks, pick) + [asked])
         # Here the ties bar the stand that has the pick, too: so what keeps them has its option otherwise.
         others.append((pick, first_keeping(wood, ties, stand[0], stand[1])))
     return others
-
-
-def without_pick(picks, pick):
-    return [other for other in picks if other != pick]

@@ -20,18 +20,18 @@ def least_bar(wood, yes, no):
 def least_ties(wood, yes, no):
     left = every_tie(wood)
     for t in every_tie(wood):
-        fewer = without_tie(left, t)
+        fewer = left_without(left, t)
         if bars(wood, fewer, yes, no):
             left = fewer
     return left
 
 
 def tie_others(wood, ties, yes, no):
-    return [(t, first_keeping(wood, without_tie(ties, t), yes, no)) for t in ties]
+    return [(t, first_keeping(wood, left_without(ties, t), yes, no)) for t in ties]
 
 
-def without_tie(ties, t):
-    return [other for other in ties if other != t]
+def left_without(things, one):
+    return [other for other in things if other != one]
 
 
 def standing(wood, k):

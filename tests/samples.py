@@ -14,6 +14,17 @@ BICYCLE = wood_of(
     [(0, 1, 1, (1,)), (1, 1, 1, (2, 3)), (0, 0, 1, (4,))],
     [("needs", 4, 2), ("most", 10, ((2, 7), (4, 3)))],
 )
+BICYCLE_NAMES = ["bike", "frame", "steel", "alu", "lamp"]
+BICYCLE_TEXT = "\n".join(
+    (
+        "ware bike frame steel alu lamp",
+        "bike must frame",
+        "frame one steel alu",
+        "bike may lamp",
+        "lamp needs steel",
+        "most 10 of 7 steel 3 lamp",
+    )
+)
 NINE_BOUGHS = [(0, 1, 2, (1, 2, 5)), (0, 0, 1, (3,)), (2, 2, 2, (4, 8)), (3, 0, 2, (6, 7))]
 NINE = wood_of(9, NINE_BOUGHS, [])
 LONE = wood_of(1, [], [])
@@ -177,3 +188,27 @@ def some_woods(seed, how_many, most_options, most_cross=8):
         cross = [some_cross_tie(chance, many) for tie in range(chance.randint(0, most_cross))]
         woods.append(wood_of(many, some_boughs(chance, many), cross))
     return woods
+
+
+def loosened(wood):
+    """The wood with boughs that any number of their kids keep."""
+    return wood_of(wood[0], [(up, 0, len(kids), kids) for up, low, high, kids in wood[1]], list(wood[2]))
+
+
+def woven(chance):
+    """A wood with sums that several choices together use up, and needs that hand them on."""
+    chain = [("needs", b, a) for a, b in ((1, 4), (4, 2), (5, 6), (3, 5)) if chance.randrange(3)]
+    sums = []
+    for tie in range(chance.randint(1, 2)):
+        pairs = tuple((k, chance.randint(1, 3)) for k in sorted(chance.sample(range(1, 7), 4)))
+        sums.append(("most", sum(number for k, number in pairs) - chance.randint(1, 3), pairs))
+    return wood_of(7, [(0, 0, 6, (1, 2, 3, 4, 5, 6))], chance.sample(chain + sums, len(chain + sums)))
+
+
+def some_names(chance, many):
+    names = []
+    while len(names) < many:
+        name = "".join(chance.choice("abz") for sign in range(chance.randint(1, 8)))
+        if name not in names:
+            names.append(name)
+    return names

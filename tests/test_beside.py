@@ -128,7 +128,9 @@ class WithinTest(unittest.TestCase):
             self.assertIs(shows_within(VOID, other, tree), True)
             self.assertEqual(within(WARELESS, other), ("in", ("broken", 1)))
         self.assertEqual(within(VOID, WARELESS), ("in", tree))
-        self.assertEqual(within(VOID, BANS), ("in", ("split", 1, ("split", 2, ("broken", 1), ("broken", 0)), ("broken", 0))))
+        self.assertEqual(
+            within(VOID, BANS), ("in", ("split", 1, ("split", 2, ("broken", 1), ("broken", 0)), ("broken", 0))),
+        )
         for one, ware in ((FREE, 1), (NEEDS, 1), (BOTH, 7)):
             self.assertEqual(within(one, VOID), ("out", ware))
             self.assertEqual(within(one, WARELESS), ("out", ware))

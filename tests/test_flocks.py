@@ -61,7 +61,9 @@ class FlocksTest(unittest.TestCase):
         self.assertEqual(flocks(wood), ([[0], [1, 2, 3]], [(0, 1, 1)]))
 
     def test_flocks_stand_by_their_least_options(self):
-        wood = wood_of(5, [(0, 0, 4, (1, 2, 3, 4))], [("needs", 1, 4), ("needs", 4, 1), ("needs", 2, 3), ("needs", 3, 2)])
+        wood = wood_of(
+            5, [(0, 0, 4, (1, 2, 3, 4))], [("needs", 1, 4), ("needs", 4, 1), ("needs", 2, 3), ("needs", 3, 2)],
+        )
         found, parts = flocks(wood)
         self.assertEqual(found, [[0], [1, 4], [2, 3]])
         self.assertEqual(parts, [(0, 1, 1), (0, 2, 1), (1, 2, set_of(0, 2, 3))])

@@ -5,14 +5,17 @@ import random
 import unittest
 
 from samples import (
-    BICYCLE, LONE, check_refused, grown, is_kept, keeping, open_at, options_in, set_of, some_woods, ties_of, wares_at,
+    BICYCLE, LONE, check_refused, grown, is_kept, keeping, loosened, open_at, options_in, set_of, some_woods, ties_of,
+    wares_at, woven,
 )
 from optionwood.choice import Choice
 from optionwood.errors import NoOffer
 from optionwood.woods import wood_of
 
 # Two ties, and two choices that hold each other up.
-SUMS = wood_of(6, [(0, 0, 5, (1, 2, 3, 4, 5))], [("most", 5, ((1, 2), (2, 2), (3, 2))), ("needs", 5, 3), ("bans", 5, 4)])
+SUMS = wood_of(
+    6, [(0, 0, 5, (1, 2, 3, 4, 5))], [("most", 5, ((1, 2), (2, 2), (3, 2))), ("needs", 5, 3), ("bans", 5, 4)],
+)
 FAR_NUMBERS = (-1, -2, 6, 7, 9, 10 ** 59, -10 ** 59)
 
 
@@ -21,21 +24,6 @@ def begun(wood, *picks):
     for k, value in picks:
         choice.choose(k, value)
     return choice
-
-
-def loosened(wood):
-    """The wood with boughs that any number of their kids keep."""
-    return wood_of(wood[0], [(up, 0, len(kids), kids) for up, low, high, kids in wood[1]], list(wood[2]))
-
-
-def woven(chance):
-    """A wood with sums that several choices together use up, and needs that hand them on."""
-    chain = [("needs", b, a) for a, b in ((1, 4), (4, 2), (5, 6), (3, 5)) if chance.randrange(3)]
-    sums = []
-    for tie in range(chance.randint(1, 2)):
-        pairs = tuple((k, chance.randint(1, 3)) for k in sorted(chance.sample(range(1, 7), 4)))
-        sums.append(("most", sum(number for k, number in pairs) - chance.randint(1, 3), pairs))
-    return wood_of(7, [(0, 0, 6, (1, 2, 3, 4, 5, 6))], chance.sample(chain + sums, len(chain + sums)))
 
 
 def stand_with(picks):
@@ -125,7 +113,9 @@ class WhyTest(unittest.TestCase):
 
     def test_choices_are_left_out_from_the_least_option_on(self):
         # Any one of 1, 2 and 3 bars 4: what stays is the last by option, whatever was chosen first.
-        wood = wood_of(5, [(0, 0, 4, (1, 2, 3, 4))], [("most", 1, ((1, 1), (2, 1), (3, 1), (4, 1))), ("most", 9, ((4, 1),))])
+        wood = wood_of(
+            5, [(0, 0, 4, (1, 2, 3, 4))], [("most", 1, ((1, 1), (2, 1), (3, 1), (4, 1))), ("most", 9, ((4, 1),))],
+        )
         self.assertEqual(begun(wood, (2, True)).why(4, True)[:2], ([1], [(2, True)]))
         wood = wood_of(5, [(0, 0, 4, (1, 2, 3, 4))], [("most", 3, ((1, 1), (2, 1), (3, 1), (4, 3)))])
         for order in itertools.permutations([(1, True), (2, True), (3, True)]):
